@@ -1,0 +1,31 @@
+"""The interface: each name stands in its module, with its arguments by their places and names."""
+
+import importlib
+import inspect
+import unittest
+
+FUNCTIONS = {
+    "ties": {
+        "is_measure": "thing", "is_tie": "measure thing", "tie_count": "measure", "all_ties": "measure",
+        "nought": "measure", "tie_sum": "measure one other", "tie_less": "measure one other",
+        "tie_times": "measure tie times", "tie_order": "measure tie",
+    },
+    "frames": {"Frame": "measure hues"},
+}
+
+
+class TestInterface(unittest.TestCase):
+    def test_names_and_arguments(self):
+        for module, functions in FUNCTIONS.items():
+            for name, words in functions.items():
+                told = getattr(importlib.import_module(f"wholeturn.{module}"), name)
+                self.assertEqual(told.__module__, f"wholeturn.{module}")
+                parameters = inspect.signature(told).parameters.values()
+                self.assertEqual([parameter.name for parameter in parameters], words.split(), name)
+                for parameter in parameters:
+                    self.assertEqual(parameter.kind, parameter.POSITIONAL_OR_KEYWORD, name)
+                    self.assertIs(parameter.default, parameter.empty, name)
+
+
+if __name__ == "__main__":
+    unittest.main()

@@ -1,0 +1,1 @@
+"""Wholeturn: likenesses of a few that go on to all."""
