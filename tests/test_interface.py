@@ -11,6 +11,19 @@ FUNCTIONS = {
         "tie_times": "measure tie times", "tie_order": "measure tie",
     },
     "frames": {"Frame": "measure hues"},
+    "tables": {
+        "is_table": "frame thing", "even_table": "frame", "table_tie": "table one other",
+        "web_tie": "frame web one other",
+    },
+    "places": {
+        "is_place": "frame thing", "place_count": "frame", "place_number": "frame place", "place_at": "frame number",
+        "place_tie": "frame one other",
+    },
+    "standings": {"standing": "frame web", "web_of": "frame lot"},
+    "turnings": {
+        "is_turning": "frame thing", "still_turning": "frame", "lead_place": "frame turning place",
+        "put_behind": "frame first second", "turned_back": "frame turning", "turning_count": "frame",
+    },
 }
 
 

@@ -86,3 +86,19 @@ def every_turning(frame):
     orders = itertools.permutations(range(len(hues)))
     leads = [order for order in orders if all(hues[x] == hues[y] for x, y in enumerate(order))]
     return list(itertools.product(leads, every_table(frame)))
+
+
+def mixed_tie(frame, seed):
+    """A tie that hangs on the seed, for tables and places of frames too large to be gone through."""
+    return tuple(seed * (at + 3) % limit for at, limit in enumerate(frame.measure))
+
+
+def mixed_table(frame, seed):
+    rows = range(len(frame.hues))
+    return tuple(tuple(mixed_tie(frame, seed + 7 * x * x + 5 * y) for y in range(x)) for x in rows)
+
+
+def mixed_place(frame, stem, seed):
+    said = [mixed_tie(frame, seed + 11 * x * x) for x in range(len(frame.hues))]
+    said[stem] = (0,) * len(frame.measure)
+    return (stem, tuple(said))
