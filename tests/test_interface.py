@@ -24,6 +24,10 @@ FUNCTIONS = {
         "is_turning": "frame thing", "still_turning": "frame", "lead_place": "frame turning place",
         "put_behind": "frame first second", "turned_back": "frame turning", "turning_count": "frame",
     },
+    "likenesses": {"is_likeness": "frame web other thing", "part_of": "frame web other likeness"},
+    "parts": {"is_part": "frame thing", "sign_counts": "frame part"},
+    "bars": {"first_bar": "frame part", "goes_on": "frame part"},
+    "barlooks": {"shows_bar": "frame part thing"},
 }
 
 

@@ -8,7 +8,9 @@ import unittest
 from wholeturn.frames import Frame
 from wholeturn.places import is_place, place_tie
 from wholeturn.turnings import is_turning, lead_place, put_behind, still_turning, turned_back, turning_count
-from tests.things import THINGS, every_place, every_turning, mixed_place, mixed_table, spoiled
+from tests.things import (
+    THINGS, every_place, every_turning, mixed_place, mixed_table, mixed_turning, raw_tie, spoiled,
+)
 
 SMALL = [
     Frame((2,), (0, 0)), Frame((2,), (0, 1)), Frame((3,), (4, 4)), Frame((5,), (0, 0)), Frame((2, 2), (0, 0)),
@@ -17,27 +19,6 @@ SMALL = [
 SIXTEEN = Frame((2, 3, 5), (0, 1, 1, 0) * 4)
 FRAME = Frame((3,), (0, 0, 1))
 TURNING = ((1, 0, 2), ((), ((1,),), ((2,), (0,))))
-
-
-def mixed_leads(frame, step):
-    """Leads that put the stems of each hue round by so many."""
-    leads = [0] * len(frame.hues)
-    for hue in set(frame.hues):
-        stems = [stem for stem, own in enumerate(frame.hues) if own == hue]
-        for at, stem in enumerate(stems):
-            leads[stem] = stems[(at * 3 + step) % len(stems)]
-    return tuple(leads)
-
-
-def mixed_turning(frame, seed):
-    return (mixed_leads(frame, seed), mixed_table(frame, seed))
-
-
-def raw_tie(frame, one, other):
-    """The tie of two places by the document's words, without the program."""
-    if one[0] == other[0]:
-        return None
-    return tuple((a - b) % m for a, b, m in zip(one[1][other[0]], other[1][one[0]], frame.measure))
 
 
 def may_go(frame, pairs, place, image):

@@ -1,4 +1,4 @@
-"""The one helper of the package: whole numbers, and tuples of so many, among anything."""
+"""The one helper of the package: whole numbers, tuples and pairs among anything."""
 
 
 def is_whole(thing):
@@ -28,3 +28,23 @@ def product(numbers):
     for number in numbers:
         result *= number
     return result
+
+
+def is_same(thing, value):
+    """Whether thing, which may be anything, is just this value made of whole numbers, texts and tuples."""
+    if isinstance(value, tuple):
+        return is_tuple_of(thing, len(value)) and all([is_same(part, own) for part, own in zip(thing, value)])
+    # To Python a truth equals a number, too; here it doesn't.
+    return not isinstance(thing, bool) and thing == value
+
+
+def are_unlike(things):
+    """Whether none of the things, whole numbers or tuples of them, stands there twice."""
+    return len(set(things)) == len(things)
+
+
+def are_matched(pairs):
+    """Whether the pairs rise, no first thing stands there twice, and no second one does."""
+    if list(pairs) != sorted(pairs):
+        return False
+    return are_unlike([one for one, other in pairs]) and are_unlike([other for one, other in pairs])
