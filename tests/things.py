@@ -110,13 +110,13 @@ def mixed_place(frame, stem, seed):
     return (stem, tuple(said))
 
 
-def mixed_leads(frame, step):
-    """Leads that put the stems of each hue round by so many."""
+def mixed_leads(frame, seed):
+    """Leads that hang on the seed."""
     leads = [0] * len(frame.hues)
     for hue in set(frame.hues):
         stems = [stem for stem, own in enumerate(frame.hues) if own == hue]
-        for at, stem in enumerate(stems):
-            leads[stem] = stems[(at * 3 + step) % len(stems)]
+        for stem, led in zip(stems, random.Random(seed + 100 * hue).sample(stems, len(stems))):
+            leads[stem] = led
     return tuple(leads)
 
 
@@ -153,6 +153,18 @@ def twenty_rows(frame):
     """A part of twenty rows, four of each of five stems, of a frame of sixteen stems, that goes on."""
     places = [mixed_place(frame, stem, 17 * seed + stem) for stem in (1, 4, 7, 8, 15) for seed in range(4)]
     return raw_part(frame, mixed_turning(frame, 5), places)
+
+
+def raw_maps(frame):
+    """Each turning, rising, with where it leads every place."""
+    places = every_place(frame)
+    turnings = sorted(every_turning(frame))
+    return [(turning, {place: raw_led(frame, turning, place) for place in places}) for turning in turnings]
+
+
+def raw_ways(maps, part):
+    """Those of the turnings with their maps that go on from the part."""
+    return [(turning, led) for turning, led in maps if all(led[one] == other for one, other in part)]
 
 
 def every_part(frame, many):

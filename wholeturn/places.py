@@ -2,7 +2,7 @@
 
 from wholeturn.errors import NoNumber
 from wholeturn.ties import all_ties, are_ties, nought, tie_count, tie_less
-from wholeturn.wholes import is_below, is_tuple_of, product
+from wholeturn.wholes import digits_of, is_below, is_tuple_of, number_of, product
 
 
 def is_place(frame, thing):
@@ -17,44 +17,31 @@ def is_place(frame, thing):
 
 def place_count(frame):
     """How many places the whole has."""
+    return product(place_limits(frame))
+
+
+def place_limits(frame):
+    """How many choices there are of a place's stem and of each tie that it says."""
     # What a place says of its own stem is no choice.
-    said = frame.stem_count() - 1
-    return frame.stem_count() * product([tie_count(frame.measure)] * said)
-
-
-def tie_number(measure, tie):
-    """How many ties of the measure are less."""
-    number = 0
-    for part, limit in zip(tie, measure):
-        number = number * limit + part
-    return number
+    return [frame.stem_count()] + [tie_count(frame.measure)] * (frame.stem_count() - 1)
 
 
 def place_number(frame, place):
     """How many places of the frame are less."""
     stem, says = place
-    ties = tie_count(frame.measure)
-    number = stem
-    for other, tie in enumerate(says):
-        if other != stem:
-            number = number * ties + tie_number(frame.measure, tie)
-    return number
+    said = [number_of(tie, frame.measure) for other, tie in enumerate(says) if other != stem]
+    return number_of([stem] + said, place_limits(frame))
 
 
 def place_at(frame, number):
     """The place of that number among all of the frame; NoNumber of anything that is none's."""
     if not is_below(number, place_count(frame)):
         raise NoNumber(number)
+    stem, *said = digits_of(number, place_limits(frame))
     ties = all_ties(frame.measure)
-    left = number
-    said = []
-    while len(said) < frame.stem_count() - 1:
-        left, at = divmod(left, len(ties))
-        said.append(ties[at])
-    # The tie of the last stem comes out first, and the stem is what is left of the number.
-    said.reverse()
-    said.insert(left, nought(frame.measure))
-    return (left, tuple(said))
+    says = [ties[at] for at in said]
+    says.insert(stem, nought(frame.measure))
+    return (stem, tuple(says))
 
 
 def place_tie(frame, one, other):

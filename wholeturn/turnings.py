@@ -2,7 +2,7 @@
 
 from wholeturn.tables import even_table, is_table, table_tie
 from wholeturn.ties import nought, tie_count, tie_less, tie_sum
-from wholeturn.wholes import is_below, is_tuple_of, product
+from wholeturn.wholes import is_below, is_tuple_of, like_counts, product
 
 
 def is_turning(frame, thing):
@@ -75,7 +75,6 @@ def moves_back(frame, moves, came, stem):
 def turning_count(frame):
     """How many turnings there are."""
     stems = frame.stem_count()
-    # Put in one by one, a stem may stand ahead of or behind each of its hue that is there already.
-    orders = product([frame.hues[:stem + 1].count(hue) for stem, hue in enumerate(frame.hues)])
+    orders = product(like_counts(frame.hues))
     pairs = stems * (stems - 1) // 2
     return orders * product([tie_count(frame.measure)] * pairs)

@@ -1,4 +1,4 @@
-"""The one helper of the package: whole numbers, tuples and pairs among anything."""
+"""The one helper of the package: whole numbers, tuples and pairs among anything, and counting."""
 
 
 def is_whole(thing):
@@ -48,3 +48,47 @@ def are_matched(pairs):
     if list(pairs) != sorted(pairs):
         return False
     return are_unlike([one for one, other in pairs]) and are_unlike([other for one, other in pairs])
+
+
+def number_of(digits, limits):
+    """How many rows of digits, each from 0 and below its limit, are less than this one."""
+    number = 0
+    for digit, limit in zip(digits, limits):
+        number = number * limit + digit
+    return number
+
+
+def digits_of(number, limits):
+    """The row of digits below these limits that has this number."""
+    digits = []
+    left = number
+    for limit in reversed(limits):
+        left, digit = divmod(left, limit)
+        digits.append(digit)
+    # The last digit comes out first.
+    digits.reverse()
+    return digits
+
+
+def like_counts(marks):
+    """For each mark how many are like it from there on, itself with them.
+
+    Multiplied, these come to the number of ways in which like marks can change their places.
+    """
+    return [marks[at:].count(mark) for at, mark in enumerate(marks)]
+
+
+def common_divisor(one, other):
+    """The greatest number that parts both numbers, which are from 1."""
+    greater, lesser = one, other
+    while lesser > 0:
+        greater, lesser = lesser, greater % lesser
+    return greater
+
+
+def common_multiple(numbers):
+    """The least number from 1 that all the numbers part, 1 of none."""
+    multiple = 1
+    for number in numbers:
+        multiple *= number // common_divisor(multiple, number)
+    return multiple
