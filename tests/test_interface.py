@@ -36,6 +36,18 @@ FUNCTIONS = {
     "times": {
         "turn_times": "frame turning times", "turning_order": "frame turning", "times_to": "frame turning one other",
     },
+    "rings": {
+        "least_on_ring": "frame turning place", "stays": "frame turning times=1", "ring_counts": "frame turning",
+    },
+    "likes": {"least_like": "frame places", "are_like": "frame places others", "pair_kinds": "frame"},
+    "growing": {
+        "grown": "frame hue", "grown_place": "frame place", "grown_table": "frame table ties=None",
+        "grown_part": "frame part", "grown_turning": "frame turning",
+    },
+    "coarsening": {
+        "is_coarser": "measure thing", "coarser_frame": "frame measure", "coarser_place": "frame measure place",
+        "coarser_table": "frame measure table", "coarser_turning": "frame measure turning",
+    },
 }
 
 

@@ -52,6 +52,12 @@ def local_names(function):
     return names + [node.id for node in stored]
 
 
+def defined_names(tree):
+    """The names that a file itself gives a meaning at module level."""
+    named = [node.name for node in tree.body if isinstance(node, (ast.FunctionDef, ast.ClassDef))]
+    return named + [target.id for node in tree.body if isinstance(node, ast.Assign) for target in node.targets]
+
+
 class TestFiles(unittest.TestCase):
     def test_folder_holds_plain_files_alone(self):
         inside = [path for path in PACKAGE.iterdir() if path.name != "__pycache__"]
@@ -87,7 +93,7 @@ class TestModules(unittest.TestCase):
         for name, node in nodes(ast.ImportFrom):
             self.assertEqual(node.level, 0, name)
             path = PACKAGE.parent / (node.module.replace(".", "/") + ".py")
-            defined = [part.name for part in ast.parse(path.read_text()).body if hasattr(part, "name")]
+            defined = defined_names(ast.parse(path.read_text()))
             for alias in node.names:
                 self.assertIsNone(alias.asname, name)
                 self.assertIn(alias.name, defined, (name, alias.name))

@@ -6,7 +6,7 @@ import unittest
 from wholeturn.frames import Frame
 from wholeturn.times import times_to, turn_times, turning_order
 from wholeturn.turnings import is_turning, lead_place, put_behind, still_turning, turned_back
-from tests.things import HUGE, every_place, every_turning, mixed_place, mixed_turning, raw_led
+from tests.things import HUGE, every_place, every_turning, mixed_place, mixed_turning, raw_ring
 
 FRAME = Frame((3,), (0, 0, 1))
 TURNING = ((1, 0, 2), ((), ((1,),), ((2,), (0,))))
@@ -31,16 +31,6 @@ def done_often(frame, turning):
         if more == done[0]:
             return done
         done.append(more)
-
-
-def ring(frame, turning, place):
-    """The places to which the turning leads the place, one by one, from the place itself until it is there again."""
-    places = [place]
-    while True:
-        led = raw_led(frame, turning, places[-1])
-        if led == place:
-            return places
-        places.append(led)
 
 
 class TestTurnTimes(unittest.TestCase):
@@ -134,7 +124,7 @@ class TestTimesTo(unittest.TestCase):
             places = every_place(frame)
             for turning in every_turning(frame)[::3]:
                 for place in places:
-                    there = ring(frame, turning, place)
+                    there = raw_ring(frame, turning, place)
                     for other in places:
                         times = there.index(other) if other in there else None
                         self.assertEqual(times_to(frame, turning, place, other), times)
@@ -145,7 +135,7 @@ class TestTimesTo(unittest.TestCase):
     def test_sixteen_stems(self):
         turning = long_turning()
         place = mixed_place(SIXTEEN, 0, 3)
-        there = ring(SIXTEEN, turning, place)
+        there = raw_ring(SIXTEEN, turning, place)
         self.assertGreater(len(there), 139)
         for times in [0, 1, 17, len(there) - 1]:
             self.assertEqual(times_to(SIXTEEN, turning, place, there[times]), times)

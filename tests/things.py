@@ -144,6 +144,16 @@ def raw_led(frame, turning, place):
     return (leads[stem], tuple(others[y] for y in range(len(says))))
 
 
+def raw_ring(frame, turning, place):
+    """The places to which the turning leads the place, one by one, from the place itself until it is there again."""
+    places = [place]
+    while True:
+        led = raw_led(frame, turning, places[-1])
+        if led == place:
+            return places
+        places.append(led)
+
+
 def raw_part(frame, turning, places):
     """The part of these places that the turning goes on from."""
     return tuple(sorted((place, raw_led(frame, turning, place)) for place in places))

@@ -26,20 +26,18 @@ def doubled_times(frame, turning, times):
 
 def turning_order(frame, turning):
     """The least number of times from 1 by which each place is led to itself."""
-    turns = common_multiple([stem_turns(turning[0], stem) for stem in turning[0]])
+    turns = common_multiple([len(stem_ring(turning[0], stem)) for stem in turning[0]])
     leads, moves = doubled_times(frame, turning, turns)
     # All stems are back now, so that from here on the moves just add up.
     return turns * common_multiple([tie_order(frame.measure, tie) for row in moves for tie in row])
 
 
-def stem_turns(leads, stem):
-    """The least number of times from 1 by which the leads lead the stem to itself."""
-    here = leads[stem]
-    turns = 1
-    while here != stem:
-        here = leads[here]
-        turns += 1
-    return turns
+def stem_ring(leads, stem):
+    """The stems to which the leads lead this one, from itself on until they are back at it."""
+    ring = [stem]
+    while leads[ring[-1]] != stem:
+        ring.append(leads[ring[-1]])
+    return ring
 
 
 def times_to(frame, turning, one, other):
