@@ -48,7 +48,36 @@ FUNCTIONS = {
         "is_coarser": "measure thing", "coarser_frame": "frame measure", "coarser_place": "frame measure place",
         "coarser_table": "frame measure table", "coarser_turning": "frame measure turning",
     },
+    "halls": {"Hall": "frame *keep=True"},
+    "showing": {
+        "show_frame": "frame", "show_table": "table", "show_place": "place", "show_turning": "turning",
+        "show_part": "part", "show_bar": "bar",
+    },
+    "reading": {
+        "read_frame": "text", "read_table": "frame text", "read_place": "frame text", "read_turning": "frame text",
+        "read_part": "frame text",
+    },
+    "desk": {"Desk": "text"},
 }
+METHODS = {
+    ("frames", "Frame"): {"stem_count": "self", "__eq__": "self other"},
+    ("halls", "Hall"): {
+        "put": "self name place", "lift": "self name", "lead": "self rows", "turn": "self turning times=1",
+        "grow": "self hue", "where": "self name", "names": "self", "frame_now": "self", "whole_turning": "self",
+        "back": "self", "copy": "self", "__len__": "self",
+    },
+    ("desk", "Desk"): {"say": "self line"},
+}
+
+
+def shown(told):
+    """The parameters, each with its default as the document shows it, number=0; behind a * those by name alone."""
+    words = []
+    for parameter in inspect.signature(told).parameters.values():
+        words.append(("*" if parameter.kind == parameter.KEYWORD_ONLY else "") + str(parameter))
+        if parameter.kind not in (parameter.KEYWORD_ONLY, parameter.POSITIONAL_OR_KEYWORD):
+            words.append("of another kind")
+    return " ".join(words)
 
 
 class TestInterface(unittest.TestCase):
@@ -57,11 +86,19 @@ class TestInterface(unittest.TestCase):
             for name, words in functions.items():
                 told = getattr(importlib.import_module(f"wholeturn.{module}"), name)
                 self.assertEqual(told.__module__, f"wholeturn.{module}")
-                parameters = inspect.signature(told).parameters.values()
-                # A parameter shows its default as the document does: number=0.
-                self.assertEqual([str(parameter) for parameter in parameters], words.split(), name)
-                for parameter in parameters:
-                    self.assertEqual(parameter.kind, parameter.POSITIONAL_OR_KEYWORD, name)
+                self.assertEqual(shown(told), words, name)
+
+    def test_methods_stand_in_their_class_itself(self):
+        for (module, name), methods in METHODS.items():
+            kind = getattr(importlib.import_module(f"wholeturn.{module}"), name)
+            self.assertEqual(kind.__bases__, (object,))
+            for method, words in methods.items():
+                self.assertEqual(shown(vars(kind)[method]), words, method)
+
+    def test_all_modules_of_the_document(self):
+        named = "ties frames tables places standings turnings likenesses parts bars barlooks ways barring times rings likes"
+        named += " growing coarsening halls showing reading desk"
+        self.assertEqual(sorted(FUNCTIONS), sorted(named.split()))
 
 
 if __name__ == "__main__":

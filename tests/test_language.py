@@ -58,6 +58,17 @@ def defined_names(tree):
     return named + [target.id for node in tree.body if isinstance(node, ast.Assign) for target in node.targets]
 
 
+def is_plain_value(node, above):
+    """Whether a module-level value is a literal, or a tuple or dict of literals and of functions bound above it."""
+    if isinstance(node, ast.Dict):
+        parts = node.keys + node.values
+    elif isinstance(node, ast.Tuple):
+        parts = node.elts
+    else:
+        return isinstance(node, ast.Constant) or (isinstance(node, ast.Name) and node.id in above)
+    return all(not isinstance(part, ast.Dict) and is_plain_value(part, above) for part in parts)
+
+
 class TestFiles(unittest.TestCase):
     def test_folder_holds_plain_files_alone(self):
         inside = [path for path in PACKAGE.iterdir() if path.name != "__pycache__"]
@@ -107,7 +118,7 @@ class TestModules(unittest.TestCase):
                 if isinstance(node, ast.ImportFrom):
                     bound += [alias.name for alias in node.names]
                 elif isinstance(node, ast.Assign):
-                    ast.literal_eval(node.value)
+                    self.assertTrue(is_plain_value(node.value, bound), (name, node.lineno))
                     bound += [target.id for target in node.targets]
                 else:
                     bound.append(node.name)

@@ -263,3 +263,64 @@ def sampled_parts(frame, many):
         if len({other for one, other in rows}) == len(rows):
             many -= 1
             yield tuple(rows)
+
+
+def place_grown(frame, place):
+    """The place in the frame with a stem more."""
+    return (place[0], place[1] + ((0,) * len(frame.measure),))
+
+
+def turning_grown(frame, turning):
+    """The turning in the frame with a stem more."""
+    stems = len(frame.hues)
+    return (turning[0] + (stems,), turning[1] + (((0,) * len(frame.measure),) * stems,))
+
+
+def tie_text(tie):
+    return ".".join(map(str, tie))
+
+
+def place_text(place):
+    return " ".join([str(place[0])] + ["-" if x == place[0] else tie_text(tie) for x, tie in enumerate(place[1])])
+
+
+def table_text(table):
+    return "\n".join(" ".join(map(tie_text, row)) for row in table if row)
+
+
+def turning_text(turning):
+    return "leads " + " ".join(map(str, turning[0])) + "\n" + table_text(turning[1])
+
+
+def part_text(part):
+    return "\n".join(place_text(one) + " > " + place_text(other) for one, other in part) or "-"
+
+
+def frame_text(frame):
+    return "measure " + " ".join(map(str, frame.measure)) + "\nhues " + " ".join(map(str, frame.hues))
+
+
+def edited(text, signs=" \n\t0123-.>/ab"):
+    """The text with one thing otherwise: a sign less, more or another, a row more, fewer, doubled, two changed."""
+    for at in range(len(text) + 1):
+        yield text[:at] + text[at + 1:]
+        for sign in signs:
+            yield text[:at] + sign + text[at:]
+            yield text[:at] + sign + text[at + 1:]
+    rows = text.split("\n")
+    for at, row in enumerate(rows):
+        yield "\n".join(rows[:at] + rows[at + 1:])
+        yield "\n".join(rows[:at] + [row] + rows[at:])
+        yield "\n".join(rows[:at] + rows[at + 1:] + [row])
+        yield "\n".join(rows[:at] + [row.upper()] + rows[at + 1:])
+        yield "\n".join(rows[:at] + [row.replace(" ", "  ")] + rows[at + 1:])
+        yield "\n".join(rows[:at] + ["", row] + rows[at + 1:])
+        yield "\n".join(rows[:at] + ["x"] * (at + 1))
+    yield text + "\n" + text
+    yield text.replace("\n", "\r\n")
+    yield text.replace("\n", " ")
+    yield text.replace("1", "01")
+    yield text.replace("0", "00")
+    yield text.replace("1", "\u0661")
+    yield text.replace(" ", "\u00a0")
+    yield text.replace("1", "1" * 6000)

@@ -32,4 +32,9 @@ def are_hues(thing):
     """Whether thing, which may be anything, is the tuple of the hues of a frame's stems."""
     if not isinstance(thing, tuple) or not is_within(len(thing), LEAST_STEMS, MOST_STEMS):
         return False
-    return all([is_within(hue, 0, MOST_HUE) for hue in thing])
+    return all([is_hue(hue) for hue in thing])
+
+
+def is_hue(thing):
+    """Whether thing, which may be anything, is a hue."""
+    return is_within(thing, 0, MOST_HUE)

@@ -39,7 +39,7 @@ def is_same(thing, value):
 
 
 def are_unlike(things):
-    """Whether none of the things, whole numbers or tuples of them, stands there twice."""
+    """Whether none of the things, whole numbers, texts or tuples of these, stands there twice."""
     return len(set(things)) == len(things)
 
 
